@@ -1,0 +1,1 @@
+"""Surehand: what lies at hand on a quick shelf, in every run."""

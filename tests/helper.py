@@ -1,0 +1,172 @@
+"""Odd things, and shelves, runs and programs told anew in another manner, for the tests."""
+
+from itertools import permutations, product
+
+WAYS = ("last", "first", "tree")
+SIZES = {"last": range(1, 9), "first": range(1, 9), "tree": (1, 2, 4, 8)}
+
+
+class Angry:
+    """A thing that bears no question but of what class it is."""
+
+    def refuse(self, *told):
+        raise AssertionError("an odd thing was asked something")
+
+    __eq__ = __ne__ = __lt__ = __le__ = __gt__ = __ge__ = refuse
+    __hash__ = __len__ = __bool__ = __iter__ = __contains__ = __getitem__ = refuse
+    __str__ = __repr__ = __int__ = __index__ = __add__ = __radd__ = refuse
+
+
+def nested(times, make, inner):
+    """Put a thing within itself so many times."""
+    for _ in range(times):
+        inner = make(inner)
+    return inner
+
+
+def odd_things():
+    """Things that are no whole numbers, no lists and no tuples."""
+    return [None, True, False, "", "0", "1", "last", "size", b"", b"last", {}, {0: 1}, {"a": 1},
+            set(), {0}, frozenset(), range(3), object(), object, len, Angry()]
+
+
+def odd_lists():
+    """Lists and tuples that are nothing here: no lay, no term, no row, no step."""
+    ring = []
+    ring.append(ring)
+    return [[None], [[]], [()], [{}], [0], ["a"], [Angry()], ring, [ring], (ring,), (None,), ("",), (0,), ((),),
+            (Angry(),), (Angry(), Angry()), [(Angry(), Angry())], ("ask",), (("ask", (1,)),),
+            nested(5000, lambda inner: [inner], 0), nested(5000, lambda inner: (inner,), 0),
+            nested(5000, lambda inner: ("then", (inner,)), ("rest",))]
+
+
+def shown(thing):
+    """Tell a thing in words, also one that bears no question."""
+    try:
+        return repr(thing)
+    except (AssertionError, RecursionError):
+        return "a thing that can't be shown"
+
+
+def tree_slots(slots, bits, bit, low, high, room):
+    """Ask by tree for a room that isn't at hand among the slots from low to high; change slots."""
+    if high - low == 1:
+        slots[low] = room
+        return
+    middle = (low + high) // 2
+    if bits[bit] == 0:
+        tree_slots(slots, bits, 2 * bit + 1, low, middle, room)
+    else:
+        tree_slots(slots, bits, 2 * bit + 2, middle, high, room)
+
+
+def tree_bits(bits, bit, low, high, at):
+    """Turn all bits over the slot at away from it; change bits."""
+    if high - low == 1:
+        return
+    middle = (low + high) // 2
+    bits[bit] = 1 if at < middle else 0
+    if at < middle:
+        tree_bits(bits, 2 * bit + 1, low, middle, at)
+    else:
+        tree_bits(bits, 2 * bit + 2, middle, high, at)
+
+
+def told_lay(lay, room, way):
+    """What `asked` must tell, reckoned in another manner."""
+    slots, bits = list(lay[0]), list(lay[1])
+    near = room in slots
+    if way == "tree":
+        if not near:
+            tree_slots(slots, bits, 0, 0, len(slots), room)
+        tree_bits(bits, 0, 0, len(slots), slots.index(room))
+    elif way == "last" and near:
+        slots.remove(room)
+        slots.insert(0, room)
+    elif not near:
+        slots.pop()
+        slots.insert(0, room)
+    return ((tuple(slots), tuple(bits)), near)
+
+
+def all_bits(size, way):
+    """All bits that a shelf may have."""
+    return list(product((0, 1), repeat=size - 1)) if way == "tree" else [()]
+
+
+def some_slots(size):
+    """Slots with rooms and empty ones at any place."""
+    found = [(-1,) * size, tuple(range(size)), tuple(range(99, 99 - size, -1))]
+    for empties in range(size):
+        found.append(tuple(-1 if (slot + empties) % (empties + 2) == 0 else 10 + slot for slot in range(size)))
+        found.append(tuple(-1 if slot == empties else 20 + slot for slot in range(size)))
+        found.append(tuple(30 + slot if slot == empties else -1 for slot in range(size)))
+    return found
+
+
+def small_lays(way, size):
+    """All lays with the rooms 0 to 2 and empty slots."""
+    found = set()
+    for slots in permutations((0, 1, 2) + (-1,) * size, size):
+        for bits in all_bits(size, way):
+            found.add((slots, bits))
+    return sorted(found)
+
+
+def lists_of_term(term, book, longest):
+    """All lists of rooms up to this length that the runs of a term ask for."""
+    word = term[0]
+    if word == "ask":
+        return {(room,) for room in term[1]}
+    if word == "rest":
+        return {()}
+    if word == "call":
+        return lists_of_term(book[term[1]], book, longest)
+    if word == "fork":
+        return set().union(*[lists_of_term(one, book, longest) for one in term[1]])
+    if word == "then":
+        lists = {()}
+        for one in term[1]:
+            lists = behind_one_another(lists, lists_of_term(one, book, longest), longest)
+        return lists
+    return lists_of_round(term[1], term[2], lists_of_term(term[3], book, longest), longest)
+
+
+def behind_one_another(heads, tails, longest):
+    """Each head with each tail behind it, up to this length."""
+    return {head + tail for head in heads for tail in tails if len(head) + len(tail) <= longest}
+
+
+def lists_of_round(least, most, once, longest):
+    """All lists up to this length of a term that is gone so many times."""
+    # Without a bound, rounds that ask for something are at most as many as the list is long.
+    top = least + longest if most is None else most
+    lists, so_far = set(), {()}
+    for times in range(top + 1):
+        if times >= least:
+            lists |= so_far
+        so_far = behind_one_another(so_far, once, longest)
+    return lists
+
+
+def lists_of_program(program, longest):
+    """All lists of rooms up to this length that the runs of a program ask for."""
+    return {one for one in lists_of_term(program[0][1], dict(program), longest) if len(one) <= longest}
+
+
+def lists_of_web(web, longest):
+    """All lists of rooms up to this length that the runs of a web to a row without tos ask for."""
+    seen, ahead, lists = {(0, ())}, [(0, ())], set()
+    while ahead:
+        row, so_far = ahead.pop()
+        rooms, tos = web[row]
+        for told in [so_far + (room,) for room in rooms] or [so_far]:
+            if len(told) > longest:
+                continue
+            if not tos:
+                lists.add(told)
+            for to in tos:
+                if (to, told) not in seen:
+                    seen.add((to, told))
+                    ahead.append((to, told))
+    return lists
