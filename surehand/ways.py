@@ -17,6 +17,18 @@ def is_room(thing):
     return is_whole(thing) and 0 <= thing <= LAST_ROOM
 
 
+def are_rising(numbers):
+    """Tell whether each of these numbers is above the one ahead of it."""
+    return all([one < other for one, other in zip(numbers, numbers[1:])])
+
+
+def are_rooms(thing, least, most):
+    """Tell whether it is a tuple of so many rooms, rising and unlike."""
+    if not isinstance(thing, tuple) or not least <= len(thing) <= most:
+        return False
+    return all([is_room(room) for room in thing]) and are_rising(thing)
+
+
 def is_way(thing):
     """Tell whether it is a way to keep a shelf."""
     return isinstance(thing, str) and thing in WAYS
