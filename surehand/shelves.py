@@ -17,6 +17,12 @@ def wrong_part(size, way, slots, bits):
     return None
 
 
+def look_at_room(thing):
+    """Tell None of a room, refuse everything else."""
+    if not is_room(thing):
+        raise NoRoom(thing)
+
+
 class Shelf:
     """A quick shelf: its size and way, what lies on it, and how its asks went."""
 
@@ -33,8 +39,7 @@ class Shelf:
 
     def ask(self, room):
         """Ask for a room, and tell whether it was at hand."""
-        if not is_room(room):
-            raise NoRoom(room)
+        look_at_room(room)
         behind, near = asked(self.lay(), room, self.kept_by)
         self.slots = behind[0]
         self.bits = behind[1]

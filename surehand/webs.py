@@ -37,6 +37,13 @@ def look_at_web(thing):
         raise NoWeb(None)
 
 
+def are_lists_by_rows(thing, web):
+    """Tell whether it is a list with a list for each row of the web."""
+    if not isinstance(thing, list) or len(thing) != len(web):
+        return False
+    return all([isinstance(one, list) for one in thing])
+
+
 def web_rooms(web):
     """Tell the rooms of a web, rising."""
     look_at_web(web)

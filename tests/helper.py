@@ -170,3 +170,101 @@ def lists_of_web(web, longest):
                     seen.add((to, told))
                     ahead.append((to, told))
     return lists
+
+
+# Rings, rows without rooms, with several, without tos, that lead to themselves, to which no run comes; row 0 met again.
+WEBS = [
+    [((), ())],
+    [((), (0,))],
+    [((7,), ())],
+    [((7,), (0,))],
+    [((1, 2, 3), (0,))],
+    [((1,), (1,)), ((2,), (0, 2)), ((1, 3), ())],
+    [((1, 5), (1, 2)), ((), (0, 3)), ((1,), (2, 3)), ((0, 99), ()), ((5,), (0, 4))],
+    [((), (1, 2)), ((4,), (3,)), ((5,), (3,)), ((), (0, 4)), ((4, 6), ()), ((9,), (4, 5)), ((4,), ())],
+    [((0,), (1,)), ((1,), (2,)), ((2,), (3,)), ((3,), (4,)), ((0, 4), (1, 5)), ((0,), ())],
+    [((8,), (1,)), ((), (2, 3)), ((2, 3), (1,)), ((8,), (4,)), ((2,), (5,)), ((8,), ()), ((3, 8), (6,))],
+    [((1,), (1, 3)), ((2,), (2,)), ((3,), (0,)), ((1, 2), (4,)), ((3, 4), (3, 5)), ((1, 2, 3, 4), (5,))],
+    [((), (2,)), ((1,), (2,)), ((1,), (0, 3)), ((), ()), ((2,), (1,))],
+    [((2,), (1,)), ((2,), (2,)), ((3,), (3,)), ((4,), (4,)), ((2,), ())],
+]
+
+
+def chance_web(chance, most_rows, rooms, most_tos):
+    """A web by chance with some of these rooms."""
+    rows = chance.randint(1, most_rows)
+    return [(tuple(sorted(chance.sample(rooms, min(len(rooms), chance.choice((0, 1, 1, 1, 2, 3)))))),
+             tuple(sorted(chance.sample(range(rows), chance.randint(0, min(rows, most_tos))))))
+            for _ in range(rows)]
+
+
+def some_webs(chance, many):
+    """The webs above, and so many by chance."""
+    return WEBS + [chance_web(chance, 7, range(chance.randint(1, 5)), 3) for _ in range(many)]
+
+
+def rooms_of_web(web):
+    """The rooms of a web, rising."""
+    return sorted(set().union(*[rooms for rooms, _ in web]))
+
+
+def all_asks(web):
+    """All asks of a web, tuples (row, room)."""
+    return [(row, room) for row, (rooms, _) in enumerate(web) for room in rooms]
+
+
+def since_sets(web, room):
+    """For each row the since-sets of all runs that come there, tuples (set, whether the run is new to the room)."""
+    found = [set() for _ in web]
+    ahead = [(0, frozenset(), True)]
+    while ahead:
+        row, since, new = ahead.pop()
+        if (since, new) in found[row]:
+            continue
+        found[row].add((since, new))
+        rooms, tos = web[row]
+        for asked in rooms or (None,):
+            told = (frozenset(), False) if asked == room else (since | ({asked} - {None}), new)
+            ahead.extend((to, *told) for to in tos)
+    return found
+
+
+def by_many(sets):
+    """Sets as rising tuples, sorted by how many rooms they have, then by these."""
+    return sorted((tuple(sorted(one)) for one in sets), key=lambda one: (len(one), one))
+
+
+def told_leasts(web, room):
+    """What `least_sets` must tell, reckoned in another manner."""
+    table = []
+    for found in since_sets(web, room):
+        sets = {since for since, _ in found}
+        table.append(by_many(one for one in sets if not any(other < one for other in sets)))
+    return table
+
+
+def told_greatests(web, room):
+    """What `greatest_sets` must tell, reckoned in another manner."""
+    table = []
+    for found in since_sets(web, room):
+        sets = {since for since, _ in found}
+        greatest = by_many(one for one in sets if not any(one < other for other in sets))
+        table.append([None] if any(new for _, new in found) else greatest)
+    return table
+
+
+def state(shelf):
+    """All of a Shelf that a run might change."""
+    return (shelf.size(), shelf.way(), shelf.lay(), shelf.counts())
+
+
+def chance_run(chance, web, longest):
+    """A run of the web by chance."""
+    run, row = [], 0
+    for _ in range(longest):
+        rooms, tos = web[row]
+        run.append((row, chance.choice(rooms) if rooms else None))
+        if not tos:
+            break
+        row = chance.choice(tos)
+    return run

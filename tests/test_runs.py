@@ -6,15 +6,11 @@ import unittest
 from surehand.errors import HandError, NoRun
 from surehand.runs import along, is_run
 from surehand.shelves import Shelf
-from tests.helper import Angry, SIZES, WAYS, all_bits, nested, odd_lists, odd_things, shown, told_lay
+from tests.helper import (Angry, SIZES, WAYS, all_bits, chance_run, nested, odd_lists, odd_things, shown, state,
+                          told_lay)
 
 WEB = [((1, 5), (1, 2)), ((), (0, 3)), ((1,), (2, 3)), ((0, 99), ()), ((5,), (0, 4))]
 RUN = [(0, 5), (1, None), (0, 1), (2, 1), (2, 1), (3, 99)]
-
-
-def state(shelf):
-    """All of a Shelf that a run might change."""
-    return (shelf.size(), shelf.way(), shelf.lay(), shelf.counts())
 
 
 def chance_web(chance):
@@ -22,18 +18,6 @@ def chance_web(chance):
     rows = chance.randint(1, 9)
     return [(tuple(sorted(chance.sample(range(7), chance.randint(0, 3)))),
              tuple(sorted(chance.sample(range(rows), chance.randint(1, rows))))) for _ in range(rows)]
-
-
-def chance_run(chance, web, longest):
-    """A run of the web by chance."""
-    run, row = [], 0
-    for _ in range(longest):
-        rooms, tos = web[row]
-        run.append((row, chance.choice(rooms) if rooms else None))
-        if not tos:
-            break
-        row = chance.choice(tos)
-    return run
 
 
 class RunCase(unittest.TestCase):

@@ -4,8 +4,11 @@ import copy
 import unittest
 
 from surehand.errors import HandError, NoWeb
+from surehand.greatests import greatest_sets, lets_greatest
+from surehand.leasts import least_sets, lets_least
 from surehand.runs import along, is_run
 from surehand.shelves import Shelf
+from surehand.walks import Walk
 from surehand.webs import look_at_web, met_rows, web_rooms
 from tests.helper import Angry, nested, odd_lists, odd_things, shown
 
@@ -13,7 +16,9 @@ END = ((), ())
 WEB = [((5, 9), (1, 2)), ((), (0, 3)), ((1,), (2, 3)), ((0, 99), ()), ((5,), (0, 4)), ((7,), ())]
 ASKING = (look_at_web, web_rooms, met_rows, lambda web: is_run(web, [(0, None)]),
           lambda web: along(web, [(0, None)], Shelf()), lambda web: along(web, None, Shelf()),
-          lambda web: is_run(web, Angry()))
+          lambda web: is_run(web, Angry()), lambda web: Walk(web, Shelf()), lambda web: Walk(web, Angry()),
+          lambda web: least_sets(web, Angry()), lambda web: lets_least(web, Angry(), Angry()),
+          lambda web: greatest_sets(web, Angry()), lambda web: lets_greatest(web, Angry(), Angry()))
 
 
 class WebCase(unittest.TestCase):
