@@ -14,6 +14,11 @@ def is_ask_of(rooms, thing):
     return is_room(thing) and thing in rooms
 
 
+def asks_of(rooms):
+    """Tell all for which a row with these rooms may ask, None alone where it has none."""
+    return (None,) if len(rooms) == 0 else rooms
+
+
 def is_step(web, tos, thing):
     """Tell whether it is a step to one of these rows."""
     if not isinstance(thing, tuple) or len(thing) != 2:
@@ -53,3 +58,47 @@ def along(web, run, shelf):
     for row, room in run:
         told.append(None if room is None else going.ask(room))
     return told
+
+
+def ends_with(web, thing, row, room):
+    """Tell whether it is a run of the web whose last step is this ask."""
+    return is_run(web, thing) and thing[-1] == (row, room)
+
+
+def all_states(web, starts, behind):
+    """Tell all states in which runs come to rows, a dict with the keys (row, state), the shortest runs first.
+
+    A run begins at row 0 in one of the starts, and behind(state, room) tells the
+    state behind an ask. The value is None at the begin of a run, else a tuple
+    (row, state, room): the step ahead of a shortest run that comes so.
+    """
+    came = {(0, state): None for state in starts}
+    ahead = list(came)
+    # The states behind a row's asks, of which several are often alike, and are led on but once.
+    left = set()
+    at = 0
+    while at < len(ahead):
+        row, state = ahead[at]
+        at += 1
+        rooms, tos = web[row]
+        for room in asks_of(rooms):
+            then = state if room is None else behind(state, room)
+            if (row, then) not in left:
+                left.add((row, then))
+                for to in tos:
+                    if (to, then) not in came:
+                        came[(to, then)] = (row, state, room)
+                        ahead.append((to, then))
+    return came
+
+
+def run_to(came, row, state, room):
+    """Tell the start and a shortest run that comes to a row in a state, of all that came, and asks for a room there."""
+    run = [(row, room)]
+    step = came[(row, state)]
+    while step is not None:
+        row, state, room = step
+        run.append((row, room))
+        step = came[(row, state)]
+    run.reverse()
+    return (state, run)

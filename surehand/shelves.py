@@ -23,6 +23,13 @@ def look_at_room(thing):
         raise NoRoom(thing)
 
 
+def look_at_kind(size, way):
+    """Tell None where a shelf may have this size and way, refuse everything else."""
+    part = wrong_part(size, way, None, None)
+    if part is not None:
+        raise NoShelf(part)
+
+
 class Shelf:
     """A quick shelf: its size and way, what lies on it, and how its asks went."""
 

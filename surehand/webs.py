@@ -1,7 +1,7 @@
 """Webs of rows: how they are looked at, their rooms, and the rows to which a run comes."""
 
-from surehand.errors import NoWeb
-from surehand.ways import are_rising, are_rooms, is_whole
+from surehand.errors import NoRoom, NoWeb
+from surehand.ways import are_rising, are_rooms, is_room, is_whole
 
 MOST_ROWS = 80
 MOST_ROOMS = 12
@@ -35,6 +35,17 @@ def look_at_web(thing):
             raise NoWeb(number)
     if len(rooms_in(thing)) > MOST_ROOMS:
         raise NoWeb(None)
+
+
+def is_row_number(thing, web):
+    """Tell whether it is the number of a row of the web."""
+    return is_whole(thing) and 0 <= thing < len(web)
+
+
+def look_at_ask(web, row, room):
+    """Tell None of an ask of the web, refuse everything else."""
+    if not is_row_number(row, web) or not is_room(room) or room not in web[row][0]:
+        raise NoRoom(room)
 
 
 def are_lists_by_rows(thing, web):

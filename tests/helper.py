@@ -1,6 +1,7 @@
 """Odd things, and shelves, runs and programs told anew in another manner, for the tests."""
 
-from itertools import permutations, product
+from itertools import combinations, permutations, product
+from math import comb, perm
 
 WAYS = ("last", "first", "tree")
 SIZES = {"last": range(1, 9), "first": range(1, 9), "tree": (1, 2, 4, 8)}
@@ -268,3 +269,48 @@ def chance_run(chance, web, longest):
             break
         row = chance.choice(tos)
     return run
+
+
+def lays_of_web(web, size, way):
+    """All lays of a web, sorted, found in another manner."""
+    things = rooms_of_web(web)
+    slots = {one for many in range(min(size, len(things)) + 1) for some in combinations(things, many)
+             for one in spread_out(some, size)}
+    return sorted((one, bits) for one in slots for bits in all_bits(size, way))
+
+
+def spread_out(rooms, size):
+    """All slots with just these rooms, in any order, at any places."""
+    for places in permutations(range(size), len(rooms)):
+        slots = [-1] * size
+        for place, room in zip(places, rooms):
+            slots[place] = room
+        yield tuple(slots)
+
+
+def told_stands(web, size, way):
+    """What `stands` must tell, reckoned in another manner."""
+    table = [set() for _ in web]
+    table[0].update(lays_of_web(web, size, way))
+    news = [set(lays) for lays in table]
+    while any(news):
+        come = [set() for _ in web]
+        for (rooms, tos), lays in zip(web, news):
+            behind = {told_lay(lay, room, way)[0] for lay in lays for room in rooms} if rooms else lays
+            for to in tos:
+                come[to] |= behind
+        news = [one - lays for one, lays in zip(come, table)]
+        table = [one | lays for one, lays in zip(news, table)]
+    return [sorted(lays) for lays in table]
+
+
+def how_many_lays(web, size, way):
+    """What `lays_many` must tell, reckoned in another manner."""
+    rooms = len(rooms_of_web(web))
+    return sum(comb(rooms, many) * perm(size, many) for many in range(size + 1)) * len(all_bits(size, way))
+
+
+def word_of(lays, room):
+    """The word that must be told of an ask at a row at which just these lays may lie."""
+    near = {room in slots for slots, _ in lays}
+    return {(): "unmet", (True,): "always", (False,): "never", (False, True): "some"}[tuple(sorted(near))]

@@ -333,6 +333,10 @@ class TestTold(WalkCase):
             self.assertTrue(walk != other)
         # The slots alone differ, since the first room of one is still there.
         self.assertFalse(walked(WEB, Shelf(3), run, 2) == walked(WEB, Shelf(3, "last", (9, -1, -1)), run, 2))
+        # The runs alone differ.
+        ring = [((3,), (0,))]
+        self.assertFalse(walked(ring, Shelf(), [(0, 3)], 0) == walked(ring, Shelf(), [(0, 3), (0, 3)], 0))
+        self.assertFalse(walked(WEB, Shelf(1), [(0, 5), (2, 1)], 2) == walked(WEB, Shelf(1), [(0, 1), (2, 1)], 2))
         undone = walked(WEB, Shelf(2), run, 2)
         undone.step(1, 2)
         undone.undo()

@@ -3,11 +3,15 @@
 import copy
 import unittest
 
+from surehand.ages import ages, lets_ages
 from surehand.errors import HandError, NoWeb
 from surehand.greatests import greatest_sets, lets_greatest
+from surehand.lays import lays_many, lets_stands, stands
 from surehand.leasts import least_sets, lets_least
 from surehand.runs import along, is_run
+from surehand.settled import lets_settled, settled
 from surehand.shelves import Shelf
+from surehand.sure import lets_sure, numbers, sure
 from surehand.walks import Walk
 from surehand.webs import look_at_web, met_rows, web_rooms
 from tests.helper import Angry, nested, odd_lists, odd_things, shown
@@ -18,7 +22,13 @@ ASKING = (look_at_web, web_rooms, met_rows, lambda web: is_run(web, [(0, None)])
           lambda web: along(web, [(0, None)], Shelf()), lambda web: along(web, None, Shelf()),
           lambda web: is_run(web, Angry()), lambda web: Walk(web, Shelf()), lambda web: Walk(web, Angry()),
           lambda web: least_sets(web, Angry()), lambda web: lets_least(web, Angry(), Angry()),
-          lambda web: greatest_sets(web, Angry()), lambda web: lets_greatest(web, Angry(), Angry()))
+          lambda web: greatest_sets(web, Angry()), lambda web: lets_greatest(web, Angry(), Angry()),
+          lambda web: numbers(web, Angry(), Angry()), lambda web: sure(web, Angry(), Angry(), Angry()),
+          lambda web: lets_sure(web, Angry(), Angry(), Angry(), Angry()), lambda web: ages(web, Angry()),
+          lambda web: lets_ages(web, Angry(), Angry()), lambda web: lays_many(web, Angry(), Angry()),
+          lambda web: stands(web, Angry(), Angry()), lambda web: lets_stands(web, Angry(), Angry(), Angry()),
+          lambda web: settled(web, Angry(), Angry(), Angry(), Angry()),
+          lambda web: lets_settled(web, Angry(), Angry(), Angry(), Angry(), Angry()))
 
 
 class WebCase(unittest.TestCase):
