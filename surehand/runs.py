@@ -1,6 +1,6 @@
 """Runs of webs, and shelves along them."""
 
-from surehand.errors import NoRun
+from surehand.errors import NoRun, TooMany
 from surehand.webs import look_at_web
 from surehand.ways import is_room, is_whole
 
@@ -65,12 +65,13 @@ def ends_with(web, thing, row, room):
     return is_run(web, thing) and thing[-1] == (row, room)
 
 
-def all_states(web, starts, behind):
+def all_states(web, starts, behind, most=None):
     """Tell all states in which runs come to rows, a dict with the keys (row, state), the shortest runs first.
 
     A run begins at row 0 in one of the starts, and behind(state, room) tells the
     state behind an ask. The value is None at the begin of a run, else a tuple
-    (row, state, room): the step ahead of a shortest run that comes so.
+    (row, state, room): the step ahead of a shortest run that comes so. Where
+    most is told, more states than that, all rows together, are refused.
     """
     came = {(0, state): None for state in starts}
     ahead = list(came)
@@ -78,6 +79,9 @@ def all_states(web, starts, behind):
     left = set()
     at = 0
     while at < len(ahead):
+        # Looked at on the way: there may be far more than could be gone through.
+        if most is not None and len(came) > most:
+            raise TooMany("too many states come to rows")
         row, state = ahead[at]
         at += 1
         rooms, tos = web[row]

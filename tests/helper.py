@@ -314,3 +314,83 @@ def word_of(lays, room):
     """The word that must be told of an ask at a row at which just these lays may lie."""
     near = {room in slots for slots, _ in lays}
     return {(): "unmet", (True,): "always", (False,): "never", (False, True): "some"}[tuple(sorted(near))]
+
+
+def line(asks):
+    """A web with these rooms at its rows, each row leading to the next one."""
+    return [(tuple(rooms), (row + 1,) if row + 1 < len(asks) else ()) for row, rooms in enumerate(asks)]
+
+
+def unlike_sizes(way):
+    """All tuples of a lesser and a greater size of a way."""
+    return list(combinations(SIZES[way], 2))
+
+
+def no_bits(size, way):
+    """The lay of an empty shelf, all bits 0."""
+    return ((-1,) * size, (0,) * (size - 1) if way == "tree" else ())
+
+
+def told_pairs(web, lesser, size, way, most):
+    """For each row all pairs of lays that come there from two empty shelves; None where they are more than most."""
+    table, many = [set() for _ in web], 0
+    ahead = [(0, no_bits(lesser, way), no_bits(size, way))]
+    while ahead:
+        row, lay, other = ahead.pop()
+        if (lay, other) in table[row]:
+            continue
+        table[row].add((lay, other))
+        many += 1
+        if many > most:
+            return None
+        rooms, tos = web[row]
+        for room in rooms:
+            ahead.extend((to, told_lay(lay, room, way)[0], told_lay(other, room, way)[0]) for to in tos)
+        if not rooms:
+            ahead.extend((to, lay, other) for to in tos)
+    return table
+
+
+def ends(web):
+    """Whether no run of the web goes on without end: whether none has a row twice."""
+    ahead = [(0,)]
+    while ahead:
+        rows = ahead.pop()
+        for to in web[rows[-1]][1]:
+            if to in rows:
+                return False
+            ahead.append(rows + (to,))
+    return True
+
+
+def all_runs(web):
+    """All runs of a web that ends, to rows without tos."""
+    runs, ahead = [], [((), 0)]
+    while ahead:
+        run, row = ahead.pop()
+        rooms, tos = web[row]
+        for room in rooms or (None,):
+            steps = run + ((row, room),)
+            ahead.extend((steps, to) for to in tos)
+            if not tos:
+                runs.append(list(steps))
+    return runs
+
+
+def cost_of(run, lay, way, near, far):
+    """What a run costs with this lay first."""
+    cost = 0
+    for _, room in run:
+        if room is not None:
+            lay, at_hand = told_lay(lay, room, way)
+            cost += near if at_hand else far
+    return cost
+
+
+def ending_web(chance, most_rows, rooms):
+    """A web by chance of which no run goes on without end, perhaps with a ring to which none comes."""
+    rows = chance.randint(1, most_rows)
+    web = [(tuple(sorted(chance.sample(rooms, min(len(rooms), chance.choice((0, 1, 1, 2)))))),
+            tuple(sorted(chance.sample(range(row + 1, rows), min(rows - row - 1, chance.choice((0, 1, 1, 2))))))
+            ) for row in range(rows)]
+    return web + chance.choice(([], [((rooms[0],), (0, rows))], [((), (rows + 1,)), ((rooms[-1],), (rows,))]))

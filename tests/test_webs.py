@@ -4,7 +4,10 @@ import copy
 import unittest
 
 from surehand.ages import ages, lets_ages
+from surehand.costs import is_ending, lets_costs
+from surehand.dearest import dearest
 from surehand.errors import HandError, NoWeb
+from surehand.greater import greater, lets_greater
 from surehand.greatests import greatest_sets, lets_greatest
 from surehand.lays import lays_many, lets_stands, stands
 from surehand.leasts import least_sets, lets_least
@@ -28,7 +31,11 @@ ASKING = (look_at_web, web_rooms, met_rows, lambda web: is_run(web, [(0, None)])
           lambda web: lets_ages(web, Angry(), Angry()), lambda web: lays_many(web, Angry(), Angry()),
           lambda web: stands(web, Angry(), Angry()), lambda web: lets_stands(web, Angry(), Angry(), Angry()),
           lambda web: settled(web, Angry(), Angry(), Angry(), Angry()),
-          lambda web: lets_settled(web, Angry(), Angry(), Angry(), Angry(), Angry()))
+          lambda web: lets_settled(web, Angry(), Angry(), Angry(), Angry(), Angry()),
+          lambda web: greater(web, Angry(), Angry(), Angry()),
+          lambda web: lets_greater(web, Angry(), Angry(), Angry(), Angry()), is_ending,
+          lambda web: lets_costs(web, Angry(), Angry(), Angry(), Angry(), Angry()),
+          lambda web: dearest(web, Angry(), Angry(), Angry(), Angry()))
 
 
 class WebCase(unittest.TestCase):
