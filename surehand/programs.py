@@ -10,11 +10,16 @@ DEEPEST = 6
 MOST_ROUNDS = 12
 
 
-def is_name(thing):
-    """Tell whether it is a name of a term."""
-    if not isinstance(thing, str) or not 1 <= len(thing) <= LONGEST_NAME:
+def are_letters(thing, most):
+    """Tell whether it is a text of small letters, one at least and so many at most."""
+    if not isinstance(thing, str) or not 1 <= len(thing) <= most:
         return False
     return all([sign in SMALL_LETTERS for sign in thing])
+
+
+def is_name(thing):
+    """Tell whether it is a name of a term."""
+    return are_letters(thing, LONGEST_NAME)
 
 
 def are_times(least, most):

@@ -16,13 +16,32 @@ def settled(web, row, room, size=4, way="last"):
     came = lays_come(web, size, way)
     near = [lay for at, lay in came if at == row and room in lay[0]]
     far = [lay for at, lay in came if at == row and room not in lay[0]]
-    if len(near) == 0 and len(far) == 0:
-        return ("unmet", table_of(came, web))
-    if len(far) == 0:
-        return ("always", table_of(came, web))
-    if len(near) == 0:
-        return ("never", table_of(came, web))
-    return ("some", run_to(came, row, near[0], room), run_to(came, row, far[0], room))
+    word = word_for(len(near), len(far))
+    if word != "some":
+        return (word, table_of(came, web))
+    return (word, run_to(came, row, near[0], room), run_to(came, row, far[0], room))
+
+
+def word_for(near, far):
+    """Tell the word of an ask to which runs come with so many lays that have the room, and so many that haven't."""
+    if near == 0 and far == 0:
+        return "unmet"
+    if far == 0:
+        return "always"
+    return "never" if near == 0 else "some"
+
+
+def all_words(web, size, way):
+    """Tell the words of all asks of a web, tuples (row, room, word), sorted."""
+    lays = [[] for row in web]
+    for row, lay in lays_come(web, size, way):
+        lays[row].append(lay)
+    told = []
+    for row, (rooms, tos) in enumerate(web):
+        for room in rooms:
+            near = len([lay for lay in lays[row] if room in lay[0]])
+            told.append((row, room, word_for(near, len(lays[row]) - near)))
+    return told
 
 
 def lets_settled(web, row, room, thing, size=4, way="last"):

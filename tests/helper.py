@@ -133,6 +133,31 @@ def lists_of_term(term, book, longest):
     return lists_of_round(term[1], term[2], lists_of_term(term[3], book, longest), longest)
 
 
+def chance_term(chance, depth, names):
+    """A term by chance."""
+    word = chance.choice(("ask", "ask", "rest", "call", "then", "fork", "round", "ring"))
+    if word == "call" and names:
+        return ("call", chance.choice(names))
+    if word == "rest":
+        return ("rest",)
+    if depth == 1 or word in ("ask", "call"):
+        return ("ask", tuple(sorted(chance.sample(range(1, 6), chance.choice((1, 1, 1, 2))))))
+    if word == "then":
+        return ("then", tuple(chance_term(chance, depth - 1, names) for _ in range(chance.randint(1, 3))))
+    if word == "fork":
+        return ("fork", tuple(chance_term(chance, depth - 1, names) for _ in range(chance.randint(2, 3))))
+    least = chance.randint(0, 2)
+    most = None if word == "ring" else least + chance.randint(0, 2)
+    return ("round", least, most, chance_term(chance, depth - 1, names))
+
+
+def chance_program(chance):
+    """A program by chance."""
+    names = ["a", "bb", "ccc", "dddd"][:chance.randint(1, 4)]
+    return [(name, chance_term(chance, chance.randint(1, 4), names[number + 1:]))
+            for number, name in enumerate(names)]
+
+
 def behind_one_another(heads, tails, longest):
     """Each head with each tail behind it, up to this length."""
     return {head + tail for head in heads for tail in tails if len(head) + len(tail) <= longest}

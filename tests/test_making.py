@@ -7,7 +7,8 @@ from surehand.errors import HandError, NoProgram, TooMany
 from surehand.making import web_of
 from surehand.programs import look_at_program, reach, rooms_of
 from surehand.webs import look_at_web, web_rooms
-from tests.helper import Angry, lists_of_program, lists_of_web, nested, odd_lists, odd_things, shown
+from tests.helper import (Angry, chance_program, lists_of_program, lists_of_web, nested, odd_lists, odd_things,
+                          shown)
 
 REST = ("rest",)
 ONE, TWO, BOTH = ("ask", (1,)), ("ask", (2,)), ("ask", (1, 2))
@@ -29,31 +30,6 @@ TERMS = (
     ("then", (("fork", (ONE, REST)), ("fork", (TWO, REST)), ("fork", (ONE, TWO)))),
     ("then", (("round", 0, None, ONE), ("round", 0, None, TWO), ("ask", (3,)))),
 )
-
-
-def chance_term(chance, depth, names):
-    """A term by chance."""
-    word = chance.choice(("ask", "ask", "rest", "call", "then", "fork", "round", "ring"))
-    if word == "call" and names:
-        return ("call", chance.choice(names))
-    if word == "rest":
-        return REST
-    if depth == 1 or word in ("ask", "call"):
-        return ("ask", tuple(sorted(chance.sample(range(1, 6), chance.choice((1, 1, 1, 2))))))
-    if word == "then":
-        return ("then", tuple(chance_term(chance, depth - 1, names) for _ in range(chance.randint(1, 3))))
-    if word == "fork":
-        return ("fork", tuple(chance_term(chance, depth - 1, names) for _ in range(chance.randint(2, 3))))
-    least = chance.randint(0, 2)
-    most = None if word == "ring" else least + chance.randint(0, 2)
-    return ("round", least, most, chance_term(chance, depth - 1, names))
-
-
-def chance_program(chance):
-    """A program by chance."""
-    names = ["a", "bb", "ccc", "dddd"][:chance.randint(1, 4)]
-    return [(name, chance_term(chance, chance.randint(1, 4), names[number + 1:]))
-            for number, name in enumerate(names)]
 
 
 def has_ring(web):

@@ -4,17 +4,20 @@ import copy
 import unittest
 
 from surehand.ages import ages, lets_ages
+from surehand.changes import called, joined, ordered, put_ahead, turned_by
 from surehand.costs import is_ending, lets_costs
 from surehand.dearest import dearest
 from surehand.errors import HandError, NoWeb
 from surehand.greater import greater, lets_greater
 from surehand.greatests import greatest_sets, lets_greatest
+from surehand.keeper import Keeper
 from surehand.lays import lays_many, lets_stands, stands
 from surehand.leasts import least_sets, lets_least
 from surehand.runs import along, is_run
 from surehand.settled import lets_settled, settled
 from surehand.shelves import Shelf
 from surehand.sure import lets_sure, numbers, sure
+from surehand.texts import shown_web
 from surehand.walks import Walk
 from surehand.webs import look_at_web, met_rows, web_rooms
 from tests.helper import Angry, nested, odd_lists, odd_things, shown
@@ -35,7 +38,10 @@ ASKING = (look_at_web, web_rooms, met_rows, lambda web: is_run(web, [(0, None)])
           lambda web: greater(web, Angry(), Angry(), Angry()),
           lambda web: lets_greater(web, Angry(), Angry(), Angry(), Angry()), is_ending,
           lambda web: lets_costs(web, Angry(), Angry(), Angry(), Angry(), Angry()),
-          lambda web: dearest(web, Angry(), Angry(), Angry(), Angry()))
+          lambda web: dearest(web, Angry(), Angry(), Angry(), Angry()), lambda web: put_ahead(web, Angry(), Angry()),
+          lambda web: turned_by(web, Angry(), Angry(), Angry(), Angry()), lambda web: called(web, Angry()),
+          lambda web: ordered(web, Angry()), lambda web: joined(web, Angry()), lambda web: joined([END], web), shown_web,
+          lambda web: Keeper(web, Angry(), Angry()), lambda web: Keeper([END]).change(web))
 
 
 class WebCase(unittest.TestCase):
